@@ -1,0 +1,37 @@
+import importlib
+import inspect
+import unittest
+
+ARGUMENTS = {
+    "fracs": {
+        "fraction_of": ["top", "bottom"],
+        "frac_sum": ["one", "other"],
+        "frac_less": ["one", "other"],
+        "frac_times": ["one", "other"],
+        "frac_by": ["one", "other"],
+        "is_fraction": ["thing"],
+    },
+    "trees": {
+        "is_tree": ["thing"],
+        "kept_tree": ["thing"],
+        "tree_knots": ["tree"],
+        "tree_density": ["tree"],
+        "tree_turns": ["tree"],
+        "tree_ways": ["tree"],
+        "trees_of": ["many"],
+        "trees_to": ["most"],
+    },
+}
+
+
+class Interface(unittest.TestCase):
+    def test_names_and_arguments_are_there_as_they_stand(self):
+        for module, functions in ARGUMENTS.items():
+            for name, arguments in functions.items():
+                with self.subTest(name, module=module):
+                    function = getattr(importlib.import_module("stepgrove." + module), name)
+                    self.assertEqual(list(inspect.signature(function).parameters), arguments)
+
+
+if __name__ == "__main__":
+    unittest.main()

@@ -1,0 +1,58 @@
+import pathlib
+import unittest
+
+from language import PACKAGE, faults_of
+
+FOLDER = pathlib.Path(__file__).resolve().parent.parent / PACKAGE
+
+BROKEN = [
+    ("L2", "import time\n"),
+    ("L2", "from random import choice\n"),
+    ("L2", "from stepgrove.errors import *\n"),
+    ("L2", "from .errors import NoTree\n"),
+    ("L3", "print(1)\n"),
+    ("L4", "def f(*xs):\n    return xs\n"),
+    ("L5", "class C(ValueError):\n    x = 1\n"),
+    ("L6", "def f(x):\n    assert x\n"),
+    ("L6", "def f(x):\n    'words'\n    return x\n"),
+    ("L7", "def f(x):\n    return x / 2\n"),
+    ("L7", "def f(x):\n    return 1.5\n"),
+    ("L7", "def f(x):\n    return sum(y for y in x)\n"),
+    ("L8", "def f(x):\n    return hash(x)\n"),
+    ("L10", "def f(x):\n" + "    x = x + 1\n" * 40),
+    ("L10", "# " + "x" * 120 + "\n"),
+    ("L12", "def _f(x):\n    return x\n"),
+    ("L14", "X = 'caf\u00e9'\n"),
+    ("L15", "def f(hash):\n    return hash\n"),
+    ("L15", "X = 1\nX = 2\n"),
+    ("L17", "# the type of it\n"),
+    ("L17", "def f(x):\n    return open(x)\n"),
+    ("L19", "def f(x):\n    try:\n        return x\n    except Exception:\n        return 0\n"),
+    ("L20", "def f(x, y):\n    return x is y\n"),
+    ("L21", "def f(x: int):\n    return x\n"),
+    ("L25", "def f(x):\n    x.sort()\n    return x\n"),
+    ("L27", "def f(x):\n    return 2 ** x\n"),
+]
+
+
+class FormOfTheCode(unittest.TestCase):
+    def test_package_keeps_to_the_language(self):
+        files = sorted(FOLDER.glob("*.py"))
+        self.assertIn("trees.py", [path.name for path in files])
+        for path in files:
+            with self.subTest(path.name):
+                self.assertEqual(faults_of(path.read_text(encoding="utf-8")), [])
+
+    def test_nothing_else_lies_in_the_package(self):
+        others = [path.name for path in FOLDER.iterdir() if path.suffix != ".py" and path.name != "__pycache__"]
+        self.assertEqual(others, [])
+        self.assertTrue((FOLDER / "__init__.py").is_file())
+
+    def test_each_broken_rule_is_seen(self):
+        for rule, source in BROKEN:
+            with self.subTest(source):
+                self.assertIn(rule, [fault[0] for fault in faults_of(source)])
+
+
+if __name__ == "__main__":
+    unittest.main()
