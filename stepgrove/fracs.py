@@ -51,3 +51,30 @@ def greatest_divisor(one, other):
         greater = lesser
         lesser = rest
     return greater
+
+
+def common_bottom(bottoms):
+    common = 1
+    for bottom in bottoms:
+        common = common // greatest_divisor(common, bottom) * bottom
+    return common
+
+
+def frac_total(some):
+    # Put over one bottom, many fractions are brought to lowest terms but once, which costs far more than the sum does.
+    bottom = common_bottom([part[1] for part in some])
+    return fraction_of(sum([part[0] * (bottom // part[1]) for part in some]), bottom)
+
+
+def power_of(base, power):
+    product = 1
+    square = base
+    left = power
+    while left > 0:
+        if left % 2 == 1:
+            product = product * square
+        left = left // 2
+        # The last square would be the greatest by far, and nothing would ask for it.
+        if left > 0:
+            square = square * square
+    return product

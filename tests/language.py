@@ -54,6 +54,25 @@ def faults_of(source):
     return found
 
 
+def drawn_from(source):
+    """The names that a file imports, each behind the module that it is drawn from."""
+    drawn = []
+    for node in ast.walk(ast.parse(source)):
+        if isinstance(node, ast.ImportFrom):
+            drawn.extend((node.module, alias.name) for alias in node.names)
+    return drawn
+
+
+def names_defined(source):
+    names = []
+    for node in ast.parse(source).body:
+        if isinstance(node, (ast.FunctionDef, ast.ClassDef)):
+            names.append(node.name)
+        elif isinstance(node, ast.Assign):
+            names.extend(target.id for target in node.targets if isinstance(target, ast.Name))
+    return names
+
+
 def text_faults(source):
     found = []
     rows = source.split("\n")

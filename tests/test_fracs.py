@@ -4,8 +4,11 @@ import unittest
 from fractions import Fraction
 
 from stepgrove.errors import GroveError, NoBottom
-from stepgrove.fracs import frac_by, frac_less, frac_sum, frac_times, fraction_of, is_fraction
+from stepgrove.fracs import (
+    common_bottom, frac_by, frac_less, frac_sum, frac_times, frac_total, fraction_of, is_fraction, power_of,
+)
 
+from plain import told
 from things import odd_things
 
 BIG = 999999999989
@@ -13,10 +16,6 @@ SOME = [
     (0, 1), (1, 1), (-1, 1), (1, 2), (-1, 2), (1, 3), (2, 3), (-3, 4), (5, 6), (7, 12), (12, 7), (-9, 10),
     (BIG, 999999999988), (-BIG, 1), (1, BIG), (10 ** 60 + 1, 10 ** 60),
 ]
-
-
-def told(number):
-    return (number.numerator, number.denominator)
 
 
 class FractionOf(unittest.TestCase):
@@ -107,6 +106,26 @@ class Reckoning(unittest.TestCase):
         self.assertEqual(total, told(real))
         self.assertGreater(len(str(total[1])), 60)
         self.assertEqual(frac_by(total, total), (1, 1))
+
+
+class Totals(unittest.TestCase):
+    def test_common_bottom(self):
+        self.assertEqual(common_bottom([]), 1)
+        self.assertEqual(common_bottom([4, 6, 1, 10]), 60)
+        self.assertEqual(common_bottom([BIG, BIG]), BIG)
+
+    def test_total_is_the_sum_one_by_one(self):
+        self.assertEqual(frac_total([]), (0, 1))
+        self.assertEqual(frac_total([(1, 2), (-1, 2)]), (0, 1))
+        self.assertEqual(frac_total([(2, 4), (3, 9)]), (5, 6))
+        for many in range(len(SOME) + 1):
+            self.assertEqual(frac_total(SOME[:many]), told(sum([Fraction(*one) for one in SOME[:many]], Fraction(0))))
+
+    def test_powers(self):
+        for base in (-3, -1, 0, 1, 2, BIG):
+            for power in range(40):
+                self.assertEqual(power_of(base, power), base ** power)
+        self.assertEqual(power_of(-1, 10 ** 30 + 1), -1)
 
 
 class IsFraction(unittest.TestCase):

@@ -21,6 +21,26 @@ ARGUMENTS = {
         "trees_of": ["many"],
         "trees_to": ["most"],
     },
+    "cuts": {
+        "tree_ties": ["tree"],
+        "tree_cuts": ["tree"],
+    },
+    "polys": {
+        "poly_sum": ["one", "other"],
+        "poly_times": ["one", "other"],
+        "poly_scaled": ["some", "part"],
+        "poly_slope": ["some", "k"],
+        "poly_at": ["some", "start"],
+    },
+    "changes": {
+        "is_change": ["thing"],
+        "change_speeds": ["change", "start"],
+        "bent_change": ["change", "tree"],
+        "bent_at": ["change", "tree", "start"],
+    },
+    "growth": {
+        "growth_rows": ["change", "start", "most"],
+    },
 }
 
 

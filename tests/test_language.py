@@ -1,7 +1,8 @@
 import pathlib
+import re
 import unittest
 
-from language import PACKAGE, faults_of
+from language import PACKAGE, drawn_from, faults_of, names_defined
 
 FOLDER = pathlib.Path(__file__).resolve().parent.parent / PACKAGE
 
@@ -42,6 +43,31 @@ class FormOfTheCode(unittest.TestCase):
         for path in files:
             with self.subTest(path.name):
                 self.assertEqual(faults_of(path.read_text(encoding="utf-8")), [])
+
+    def test_names_are_drawn_from_the_file_that_defines_them(self):
+        for path in sorted(FOLDER.glob("*.py")):
+            for module, name in drawn_from(path.read_text(encoding="utf-8")):
+                with self.subTest(path.name, name=name):
+                    source = (FOLDER / (module.split(".")[1] + ".py")).read_text(encoding="utf-8")
+                    self.assertIn(name, names_defined(source))
+
+    def test_every_drawn_name_is_used(self):
+        for path in sorted(FOLDER.glob("*.py")):
+            source = path.read_text(encoding="utf-8")
+            for module, name in drawn_from(source):
+                with self.subTest(path.name, name=name):
+                    self.assertGreater(len(re.findall(r"\b" + name + r"\b", source)), 1)
+
+    def test_no_two_files_draw_from_one_another(self):
+        draws = {}
+        for path in sorted(FOLDER.glob("*.py")):
+            source = path.read_text(encoding="utf-8")
+            draws[path.stem] = {module.split(".")[1] for module, name in drawn_from(source)}
+        while draws:
+            free = [stem for stem in draws if not draws[stem] & set(draws)]
+            self.assertTrue(free, draws)
+            for stem in free:
+                del draws[stem]
 
     def test_nothing_else_lies_in_the_package(self):
         others = [path.name for path in FOLDER.iterdir() if path.suffix != ".py" and path.name != "__pycache__"]

@@ -8,7 +8,8 @@ from stepgrove.trees import (
     is_tree, kept_tree, tree_density, tree_knots, tree_turns, tree_ways, trees_of, trees_to,
 )
 
-from things import nested, odd_things
+from plain import parents_of, shape
+from things import nested, no_trees, odd_things
 
 COUNTS = [1, 1, 2, 4, 9, 20, 48]
 
@@ -38,22 +39,10 @@ KNOWN = [
     (nested((), 6, lambda inner: (inner,)), 7, 5040, 1, 1),
 ]
 
-NO_TREES = odd_things() + [
-    (KNOT, PAIR), (PAIR, FORK), (FORK, CHAIN), (PAIR, KNOT, PAIR), ((KNOT, PAIR),), (CHAIN, (PAIR, KNOT)),
-    ((PAIR, (KNOT, PAIR)),), (PAIR, KNOT, []), [KNOT], [[], []], (KNOT, [KNOT]), (((), (((), ((),)),)),),
-]
-
 
 def numberings(knots):
     """All ways to hang the knots 1, 2 .. each on one with a lesser number, as lists of what each hangs on."""
     return itertools.product(*[range(k) for k in range(1, knots)])
-
-
-def shape(parents):
-    def at(knot):
-        boughs = [at(k + 1) for k, parent in enumerate(parents) if parent == knot]
-        return tuple(sorted(boughs, reverse=True))
-    return at(0)
 
 
 def shapes_counted(knots):
@@ -62,17 +51,6 @@ def shapes_counted(knots):
         tree = shape(parents)
         counted[tree] = counted.get(tree, 0) + 1
     return counted
-
-
-def parents_of(tree):
-    parents = []
-
-    def hang(boughs, knot):
-        for bough in boughs:
-            parents.append(knot)
-            hang(bough, len(parents))
-    hang(tree, 0)
-    return parents
 
 
 def turns_by_trial(tree):
@@ -103,7 +81,7 @@ class IsTree(unittest.TestCase):
                 self.assertIs(is_tree(row[0]), True)
 
     def test_no_trees(self):
-        for thing in NO_TREES:
+        for thing in no_trees():
             before = copy.deepcopy(thing)
             with self.subTest(thing):
                 self.assertIs(is_tree(thing), False)
@@ -191,7 +169,7 @@ class Reckoning(unittest.TestCase):
             (tree_knots(wide), tree_density(wide), tree_turns(wide), tree_ways(wide)), (9, 9, math.factorial(8), 1))
 
     def test_what_is_no_tree_is_refused(self):
-        for thing in NO_TREES:
+        for thing in no_trees():
             before = copy.deepcopy(thing)
             for ask in (tree_knots, tree_density, tree_turns, tree_ways):
                 with self.subTest(thing, ask=ask.__name__):
