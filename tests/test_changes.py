@@ -156,7 +156,8 @@ class Bent(unittest.TestCase):
 
     def test_all_trees_straight_by_the_words(self):
         chance = chances(3)
-        for unknowns, terms, figures, most in ((1, 3, 30, 6), (2, 4, 9, 6), (3, 4, 9, 5), (3, 10, 9, 3), (2, 6, BIG, 5)):
+        sizes = ((1, 3, 30, 6), (2, 4, 9, 6), (3, 4, 9, 5), (3, 10, 9, 3), (2, 6, BIG, 5))
+        for unknowns, terms, figures, most in sizes:
             change = some_change(chance, unknowns, terms, 2, figures)
             for tree in trees_to(most):
                 due = [told_poly(some) for some in plain_bent(plain_change(change), tree)]
