@@ -38,6 +38,15 @@ def is_fraction(thing):
     return thing[1] >= 1 and greatest_divisor(thing[0], thing[1]) == 1
 
 
+def are_fractions(thing):
+    if not isinstance(thing, list):
+        return False
+    for part in thing:
+        if not is_fraction(part):
+            return False
+    return True
+
+
 def is_whole(thing):
     # Python counts True and False among the whole numbers; here they are none.
     return isinstance(thing, int) and not isinstance(thing, bool)

@@ -13,14 +13,18 @@ MOST_POWER = 7
 def growth_rows(change, start, most):
     refuse_no_change(change)
     refuse_no_start(start, len(change))
-    if most < 0 or most > MOST_POWER:
-        raise TooMany("growth is told up to the powers 0 to 7")
+    refuse_too_many(most)
     grain = grain_of(start)
     # The power k + 1 comes of k by a division by k + 1: with a time cut this much finer it leaves no rest.
     finer = product_up_to(most)
     rows = whole_rows(whole_change(change, grain), whole_start(start, grain), most, finer)
     pace = pace_of(change, grain) * finer
     return [row_of_fractions(row, pace, grain) for row in rows]
+
+
+def refuse_too_many(most):
+    if most < 0 or most > MOST_POWER:
+        raise TooMany("rows are told up to the powers 0 to 7")
 
 
 def row_of_fractions(row, pace, grain):

@@ -1,7 +1,7 @@
 """Polynomials: lists of terms (powers, fraction), greater powers first; and the starts at which they have a worth."""
 
 from stepgrove.errors import NoStart
-from stepgrove.fracs import frac_times, frac_total, is_fraction, is_whole, power_of
+from stepgrove.fracs import are_fractions, frac_times, frac_total, is_fraction, is_whole, power_of
 
 
 def poly_sum(one, other):
@@ -29,7 +29,7 @@ def poly_slope(some, k):
 
 def poly_at(some, start):
     # [] is 0 in however many unknowns: a list of any length is a start for it.
-    if not is_start(start) or (len(some) > 0 and len(start) != len(some[0][0])):
+    if not are_fractions(start) or (len(some) > 0 and len(start) != len(some[0][0])):
         refuse_start()
     return worth_at(some, start)
 
@@ -58,17 +58,8 @@ def are_powers(thing, unknowns):
     return True
 
 
-def is_start(thing):
-    if not isinstance(thing, list):
-        return False
-    for place in thing:
-        if not is_fraction(place):
-            return False
-    return True
-
-
 def refuse_no_start(thing, unknowns):
-    if not is_start(thing) or len(thing) != unknowns:
+    if not are_fractions(thing) or len(thing) != unknowns:
         refuse_start()
 
 

@@ -1,8 +1,8 @@
-"""A change and a start brought to whole numbers, as bringing fractions to lowest terms at every step costs too much.
+"""Changes, starts and tables brought to whole numbers, as fractions in lowest terms at every step would cost too much.
 
 The numbers that move are counted in parts, grain of which make 1, and the time in parts, pace of which make 1: then
 the start and all fractions of the change are whole. What comes out of k speeds multiplied together and counts parts
-of a number is pace k times and grain once too great.
+of a number is pace k times and grain once too great. A table's fractions are put over one bottom.
 """
 
 from stepgrove.fracs import common_bottom, power_of
@@ -18,7 +18,18 @@ def pace_of(change, grain):
 
 
 def whole_start(start, grain):
-    return [(place[0] * (grain // place[1]), 1) for place in start]
+    return [(top, 1) for top in tops_over(start, grain)]
+
+
+def tops_over(some, bottom):
+    return [part[0] * (bottom // part[1]) for part in some]
+
+
+def table_bottom(table):
+    bottoms = [part[1] for part in table[1]]
+    for row in table[0]:
+        bottoms.extend([part[1] for part in row])
+    return common_bottom(bottoms)
 
 
 def whole_change(change, grain):

@@ -95,6 +95,7 @@ def top_faults(tree):
     for k, node in enumerate(tree.body):
         if isinstance(node, ast.Assign):
             bound.extend(target.id for target in node.targets if isinstance(target, ast.Name))
+            found.extend((rule, node.lineno) for rule in top_value_faults(node.value))
         elif isinstance(node, (ast.FunctionDef, ast.ClassDef)):
             bound.append(node.name)
         elif isinstance(node, ast.ImportFrom):
@@ -110,6 +111,17 @@ def top_faults(tree):
             if any(name in bound or name in dir(builtins) for name in locals_of(node)):
                 found.append(("L15", node.lineno))
     return found
+
+
+def top_value_faults(value):
+    """A value of a file's top is plain, and a list or dict of it holds no other one."""
+    rules = []
+    for node in ast.walk(value):
+        if isinstance(node, ast.expr) and not isinstance(node, (ast.Constant, ast.List, ast.Tuple, ast.Dict, ast.Name)):
+            rules.append("L3")
+        if isinstance(node, (ast.List, ast.Dict)) and node is not value:
+            rules.append("L15")
+    return rules
 
 
 def locals_of(function):

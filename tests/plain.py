@@ -87,6 +87,94 @@ def plain_bent(change, tree):
     return bent
 
 
+def rows_times(one, other):
+    """Two sums in h multiplied out, as far as both reach."""
+    return [sum(one[j] * other[k - j] for j in range(k + 1)) for k in range(len(one))]
+
+
+def put_into(some, rows):
+    """A polynomial's sum in h where its unknowns are the rows."""
+    total = [Fraction(0)] * len(rows[0])
+    for powers, part in some:
+        product = [Fraction(*part)] + [Fraction(0)] * (len(rows[0]) - 1)
+        for power, row in zip(powers, rows):
+            for _ in range(power):
+                product = rows_times(product, row)
+        total = [left + right for left, right in zip(total, product)]
+    return total
+
+
+def plain_step(table, change, start, length):
+    """Straight by point 15."""
+    rows, last = table
+    polys = [plain_poly(some) for some in change]
+    begin = [Fraction(*place) for place in start]
+
+    def led(row, speeds):
+        place = list(begin)
+        for part, there in zip(row, speeds):
+            for k, speed in enumerate(there):
+                place[k] = place[k] + Fraction(*length) * Fraction(*part) * speed
+        return place
+
+    speeds = []
+    for row in rows:
+        place = led(row, speeds)
+        speeds.append([plain_at(some, place) for some in polys])
+    return [told(number) for number in led(last, speeds)]
+
+
+def plain_step_rows(table, change, start, reach):
+    """The same with h left standing: all sums in h are kept up to the power reach, and what lies above is cut."""
+    rows, last = table
+
+    def led(row, speeds):
+        places = [[Fraction(*place)] + [Fraction(0)] * reach for place in start]
+        for part, there in zip(row, speeds):
+            for place, speed in zip(places, there):
+                for k in range(reach):
+                    place[k + 1] = place[k + 1] + Fraction(*part) * speed[k]
+        return places
+
+    speeds = []
+    for row in rows:
+        places = led(row, speeds)
+        speeds.append([put_into(some, places) for some in change])
+    return [[told(number) for number in row] for row in led(last, speeds)]
+
+
+def plain_weight(table, tree):
+    """Straight by point 16: over all ways to put the knots on rows."""
+    rows, last = table
+    parents = parents_of(tree)
+    total = Fraction(0)
+    for way in itertools.product(range(len(rows)), repeat=len(parents) + 1):
+        product = Fraction(*last[way[0]])
+        for knot, parent in enumerate(parents, start=1):
+            reader = rows[way[parent]]
+            if product == 0 or way[knot] >= len(reader):
+                product = Fraction(0)
+                break
+            product = product * Fraction(*reader[way[knot]])
+        total = total + product
+    return told(total)
+
+
+def some_table(chance, rows, figures):
+    reading = [[some_fraction(chance, figures) for _ in range(k)] for k in range(rows)]
+    return (reading, [some_fraction(chance, figures) for _ in range(rows)])
+
+
+def tables_behind(tables):
+    """One step behind another: each row also reads what the tables ahead of its own lead to."""
+    rows = []
+    last = []
+    for reading, ends in tables:
+        rows = rows + [last + row for row in reading]
+        last = last + ends
+    return (rows, last)
+
+
 def some_fraction(chance, figures):
     return told(Fraction(chance.choice((-1, 1)) * chance.randint(1, figures), chance.randint(1, figures)))
 

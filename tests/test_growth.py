@@ -8,30 +8,13 @@ from stepgrove.errors import NoChange, NoStart, TooMany
 from stepgrove.growth import growth_rows
 from stepgrove.trees import tree_density, tree_turns, trees_of
 
-from plain import chances, some_change, some_start, told
+from plain import chances, put_into, some_change, some_start, told
 from things import good_changes, no_changes, no_starts, own_answer, refused
 
 ONE = (1, 1)
 BIG = 10 ** 12 - 11
 PLAIN = [[((0, 1), ONE)], [((1, 1), ONE)]]
 START = [(2, 1), (1, 3)]
-
-
-def rows_times(one, other):
-    """Two sums in h multiplied out, as far as both reach."""
-    return [sum(one[j] * other[k - j] for j in range(k + 1)) for k in range(len(one))]
-
-
-def put_into(some, rows):
-    """A polynomial's sum in h where its unknowns are the rows."""
-    total = [Fraction(0)] * len(rows[0])
-    for powers, part in some:
-        product = [Fraction(*part)] + [Fraction(0)] * (len(rows[0]) - 1)
-        for power, row in zip(powers, rows):
-            for _ in range(power):
-                product = rows_times(product, row)
-        total = [left + right for left, right in zip(total, product)]
-    return total
 
 
 def by_trees(change, start, most):

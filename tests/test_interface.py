@@ -41,6 +41,20 @@ ARGUMENTS = {
     "growth": {
         "growth_rows": ["change", "start", "most"],
     },
+    "tables": {
+        "is_table": ["thing"],
+        "table_of": ["name"],
+    },
+    "steps": {
+        "step_to": ["table", "change", "start", "length"],
+        "step_rows": ["table", "change", "start", "most"],
+    },
+    "weights": {
+        "table_weight": ["table", "tree"],
+        "table_weighing": ["table", "most"],
+        "true_weighing": ["most"],
+        "weighing_reach": ["weighing"],
+    },
 }
 
 

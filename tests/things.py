@@ -107,6 +107,75 @@ def good_changes():
     ]
 
 
+def good_tables():
+    half = (1, 2)
+    big = (-10 ** 12 + 11, 10 ** 12 - 39)
+    tables = [([[]], [(0, 1)]), ([[]], [(-7, 3)]), ([[]], [(10 ** 40, 10 ** 39 + 1)])]
+    for rows in (1, 2, 3, 4, 5, 6, 39, 40):
+        for part in (half, (0, 1), (-1, 1), big):
+            tables.append(([[part] * k for k in range(rows)], [part] * rows))
+    return tables
+
+
+def no_tables():
+    """Things that are no table, many of them but one step from a good one."""
+    one = (1, 1)
+    half = (1, 2)
+    rows = [[], [half], [one, half]]
+    last = [half, one, (-1, 3)]
+    things = odd_things() + [
+        # lists and tuples in each other's places
+        [rows, last], (tuple(rows), last), (rows, tuple(last)), ([(), [half], [one, half]], last),
+        ([[], (half,), [one, half]], last), ([[], [half], (one, half)], last), [[[]], [one]], (((),), (one,)),
+        # another count of parts
+        (), (rows,), (rows, last, []), (rows, last, last), (rows, last, None), (last, rows), rows, last, ([[]],),
+        # no row, or too many
+        ([], []), ([], [one]), ([[]], []), ([[one] * k for k in range(41)], [one] * 41),
+        ([[one] * k for k in range(42)], [one] * 42), ([[one] * k for k in range(400)], [one] * 400),
+        # a fraction too many or too few
+        ([[one]], [one]), ([[], []], [one, one]), ([[], [one, one]], [one, one]), ([[half], [one, half]], [one, one]),
+        ([[], [half], [one]], last), ([[], [half], [one, half, half]], last), ([[], [], [one, half]], last),
+        ([[one], [half], [one, half]], last), ([[], [one, half], [half]], last), ([[], [one, half]], last),
+        ([[]] + rows, last), (rows + [[]], last), (rows[::-1], last), (rows, last[1:]), (rows, last + [half]),
+        (rows, []), (rows[:2], last), (rows + [last], last), (rows + [last + [one]], last + [one]),
+        ([[one] * k for k in range(40)], [one] * 41), ([[one] * k for k in range(40)], [one] * 39),
+        ([[one] * k for k in range(39)] + [[one] * 40], [one] * 40),
+        # other kinds
+        (None, last), (rows, None), ("", ""), ([None], [one]), ([""], [one]), ([[]], ""), ([[]], "a"), ([[]], "1"),
+        ([0], [one]), ([False], [one]), ([[]], True), ([[]], one), ([[]], half), ({}, [one]), ([[], None], [one, one]),
+        ([[], half], [one, one]), ([[], one], [one, one]), ([[], "a"], [one, one]), ([[[]]], [one]), ([[]], [[one]]),
+    ]
+    for thing in no_fractions():
+        things.append(([[]], [thing]))
+        things.append(([[], [thing], [one, half]], last))
+        things.append(([[], [half], [thing, half]], last))
+        things.append(([[], [half], [one, thing]], last))
+        for k in range(3):
+            things.append((rows, last[:k] + [thing] + last[k + 1:]))
+    return things
+
+
+WEIGHING_LENGTHS = [0, 1, 2, 4, 8, 17, 37, 85]
+
+
+def no_weighings():
+    """Things that are no list of as many fractions as there are trees of at most 0 to 7 knots."""
+    half = (1, 2)
+    things = [thing for thing in odd_things() if thing not in ([], [half])] + [(), (half,), half, [[half]]]
+    for count in range(120):
+        if count not in WEIGHING_LENGTHS:
+            things.append([half] * count)
+    things.extend([[half] * 200, [half] * 399, [half] * 400])
+    for count in WEIGHING_LENGTHS:
+        things.append(tuple([half] * count))
+        things.append([[half] * count])
+        for thing in no_fractions():
+            for k in sorted({0, count // 2, count - 1}):
+                if 0 <= k < count:
+                    things.append([half] * k + [thing] + [half] * (count - 1 - k))
+    return things
+
+
 def refused(case, kind, ask, *handed):
     """The call is refused with just this class, and leaves what was handed in as it was."""
     before = copy.deepcopy(handed)
