@@ -36,7 +36,7 @@ def bent_at(change, tree, start):
     refuse_no_start(start, len(change))
     grain = grain_of(start)
     bottom = grain * power_of(pace_of(change, grain), knots_within(tree))
-    worths = bent_worths(whole_change(change, grain), tree, whole_start(start, grain))
+    worths = bent_worths(whole_change(change, grain), tree, whole_start(start, grain), {})
     return [fraction_of(worth[0], bottom) for worth in worths]
 
 
@@ -62,16 +62,17 @@ def along_boughs(some, boughs):
     return total
 
 
-def bent_worths(change, tree, start):
-    boughs = [bent_worths(change, bough, start) for bough in tree]
-    worths = []
-    for some in change:
-        pushed = some
-        # At one start the boughs are plain numbers that no slope moves, so all rows of unknowns are taken at once.
-        for speeds in boughs:
-            pushed = pushed_by(pushed, speeds)
-        worths.append(worth_at(pushed, start))
-    return worths
+def bent_worths(change, tree, start, known):
+    pushed = change
+    # At one start the boughs are plain numbers that no slope moves, so all rows of unknowns are taken at once.
+    for k, bough in enumerate(tree):
+        # Many trees begin with the same boughs, and what those make of the change is the same in all.
+        ahead = tree[:k + 1]
+        if ahead not in known:
+            speeds = bent_worths(change, bough, start, known)
+            known[ahead] = [pushed_by(some, speeds) for some in pushed]
+        pushed = known[ahead]
+    return [worth_at(some, start) for some in pushed]
 
 
 def pushed_by(some, speeds):

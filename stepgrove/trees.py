@@ -109,6 +109,16 @@ def product_up_to(many):
     return product
 
 
+def parents_within(tree):
+    # For each knot but the root, which is 0, the number of the one that it stands on; a bough's knots follow its own.
+    parents = []
+    for bough in tree:
+        number = len(parents) + 1
+        parents.append(0)
+        parents.extend([number + parent for parent in parents_within(bough)])
+    return parents
+
+
 def trees_one_larger(tree):
     larger = [in_falling_order(tree + ((),))]
     for k, bough in enumerate(tree):

@@ -22,7 +22,7 @@ def table_weighing(table, most):
 
 
 def true_weighing(most):
-    return [(1, density_within(tree)) for tree in trees_to(most)]
+    return true_weights(trees_to(most))
 
 
 def weighing_reach(weighing):
@@ -33,6 +33,10 @@ def weighing_reach(weighing):
 def refuse_no_weighing(thing):
     if not are_fractions(thing) or len(thing) not in WEIGHING_LENGTHS:
         raise NoWeighing("a weighing is a list of a fraction for each tree of at most 0 to 7 knots")
+
+
+def true_weights(trees):
+    return [(1, density_within(tree)) for tree in trees]
 
 
 def weights_under(table, trees):

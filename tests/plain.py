@@ -126,13 +126,19 @@ def plain_step(table, change, start, length):
 
 def plain_step_rows(table, change, start, reach):
     """The same with h left standing: all sums in h are kept up to the power reach, and what lies above is cut."""
+    begin = [[Fraction(*place)] + [Fraction(0)] * reach for place in start]
+    return [[told(number) for number in row] for row in plain_step_on(table, change, begin)]
+
+
+def plain_step_on(table, change, begin):
+    """Such a step from a place that itself is told by sums in h."""
     rows, last = table
 
     def led(row, speeds):
-        places = [[Fraction(*place)] + [Fraction(0)] * reach for place in start]
+        places = [list(place) for place in begin]
         for part, there in zip(row, speeds):
             for place, speed in zip(places, there):
-                for k in range(reach):
+                for k in range(len(place) - 1):
                     place[k + 1] = place[k + 1] + Fraction(*part) * speed[k]
         return places
 
@@ -140,7 +146,7 @@ def plain_step_rows(table, change, start, reach):
     for row in rows:
         places = led(row, speeds)
         speeds.append([put_into(some, places) for some in change])
-    return [[told(number) for number in row] for row in led(last, speeds)]
+    return led(last, speeds)
 
 
 def plain_weight(table, tree):
@@ -158,6 +164,42 @@ def plain_weight(table, tree):
             product = product * Fraction(*reader[way[knot]])
         total = total + product
     return told(total)
+
+
+def plain_grove(change, start, weights):
+    """Straight by point 17, of tuples (tree, knots, turns, weight)."""
+    polys = [plain_poly(some) for some in change]
+    begin = [Fraction(*place) for place in start]
+    rows = [[place] + [Fraction(0)] * max([0] + [knots for _, knots, _, _ in weights]) for place in begin]
+    for tree, knots, turns, weight in weights:
+        for row, some in zip(rows, plain_bent(polys, tree)):
+            row[knots] = row[knots] + Fraction(*weight) / turns * plain_at(some, begin)
+    return [[told(number) for number in row] for row in rows]
+
+
+def plain_order(table, trees, most):
+    """The order by walking all ways, of tuples (tree, knots, density) in the order of the trees."""
+    for tree, knots, density in trees:
+        if knots <= most and plain_weight(table, tree) != (1, density):
+            return (knots - 1, tree)
+    return (most, None)
+
+
+def plain_parting(tree):
+    """Each knot is told by the way that leads to it from the root; put in order these ways number the unknowns."""
+    ways = []
+
+    def walk(boughs, way):
+        ways.append(way)
+        for k, bough in enumerate(boughs):
+            walk(bough, way + (k,))
+    walk(tree, ())
+    ways = sorted(ways)
+    change = []
+    for way in ways:
+        powers = tuple(1 if other and other[:-1] == way else 0 for other in ways)
+        change.append([(powers, (1, 1))])
+    return (change, [(0, 1)] * len(ways))
 
 
 def some_table(chance, rows, figures):

@@ -55,6 +55,25 @@ ARGUMENTS = {
         "true_weighing": ["most"],
         "weighing_reach": ["weighing"],
     },
+    "groves": {
+        "grove_rows": ["change", "start", "weighing"],
+    },
+    "orders": {
+        "table_order": ["table"],
+        "weighing_order": ["weighing"],
+        "parting_change": ["tree"],
+        "parted_weighings": ["one", "other"],
+    },
+    "judging": {
+        "order_paper": ["table"],
+        "judge_paper": ["table", "paper"],
+    },
+    "joins": {
+        "table_behind": ["one", "other"],
+        "table_shrunk": ["table", "part"],
+        "table_mixed": ["tables", "parts"],
+        "table_sharpened": ["table", "order"],
+    },
 }
 
 

@@ -155,6 +155,21 @@ def no_tables():
     return things
 
 
+# Four rows that miss at the chain of four knots alone.
+OF_ORDER_3 = ([[], [(1, 2)], [(0, 1), (1, 2)], [(0, 1), (1, 1), (0, 1)]], [(1, 6), (1, 3), (1, 3), (1, 6)])
+
+OF_ORDER_5 = (
+    [[], [(1, 4)], [(1, 8), (1, 8)], [(0, 1), (-1, 2), (1, 1)], [(3, 16), (0, 1), (0, 1), (9, 16)],
+     [(-3, 7), (2, 7), (12, 7), (-12, 7), (8, 7)]],
+    [(7, 90), (0, 1), (16, 45), (2, 15), (16, 45), (7, 90)],
+)
+
+OF_ORDER_6 = (
+    [[], [(1, 3)], [(0, 1), (2, 3)], [(1, 12), (1, 3), (-1, 12)], [(-1, 16), (9, 8), (-3, 16), (-3, 8)],
+     [(0, 1), (9, 8), (-3, 8), (-3, 4), (1, 2)], [(9, 44), (-9, 11), (63, 44), (18, 11), (0, 1), (-16, 11)]],
+    [(11, 120), (0, 1), (27, 40), (27, 40), (-4, 15), (-4, 15), (11, 120)],
+)
+
 WEIGHING_LENGTHS = [0, 1, 2, 4, 8, 17, 37, 85]
 
 
@@ -190,6 +205,8 @@ def refused(case, kind, ask, *handed):
 def own_answer(case, ask, *handed):
     """What is told is the asker's own: spoiling it, or what was handed in, changes no other answer."""
     before = copy.deepcopy(handed)
+    # A copy is spoilt in its place; what is handed in twice stays one thing.
+    handed = copy.deepcopy(handed)
     told = ask(*handed)
     kept = copy.deepcopy(told)
     case.assertEqual(handed, before)
