@@ -27,7 +27,7 @@ def bent_change(change, tree):
     refuse_no_tree(tree)
     # Each knot brings one speed in, and with it the pace once.
     part = (1, power_of(pace_of(change, 1), knots_within(tree)))
-    return [poly_scaled(some, part) for some in bent_polys(whole_change(change, 1), tree)]
+    return [poly_scaled(some, part) for some in bent_polys(whole_change(change, 1), tree, {})]
 
 
 def bent_at(change, tree, start):
@@ -45,9 +45,12 @@ def refuse_no_change(thing):
         raise NoChange("a change is a list of n polynomials in n unknowns, n from 1 on")
 
 
-def bent_polys(change, tree):
-    boughs = [bent_polys(change, bough) for bough in tree]
-    return [along_boughs(some, boughs) for some in change]
+def bent_polys(change, tree, known):
+    # Many trees have a bough alike, and what it makes of the change is the same in all.
+    if tree not in known:
+        boughs = [bent_polys(change, bough, known) for bough in tree]
+        known[tree] = [along_boughs(some, boughs) for some in change]
+    return known[tree]
 
 
 def along_boughs(some, boughs):

@@ -29,6 +29,16 @@ UNUSED_WORDS = (
     "NamedTuple TypedDict TYPE_CHECKING abstractmethod"
 ).split()
 
+# Python's own that are walked on the spot, and what may stand around them.
+WALKED = ("zip", "enumerate", "reversed", "range")
+WALKED_METHODS = ("items", "keys", "values")
+WALKERS = "list tuple dict sorted sum any all enumerate zip min max join".split()
+
+KEYWORDS = {
+    "sorted": ("key", "reverse"), "min": ("key", "default"), "max": ("key", "default"), "sum": ("start",),
+    "enumerate": ("start",), "zip": ("strict",),
+}
+
 UNUSED_PARTS = ("dataclass", "overload", "contextmanager")
 
 METHODS_WITH_UNDERSCORES = ("__init__", "__eq__", "__repr__", "__str__", "__len__")
@@ -47,7 +57,7 @@ EXPRESSIONS = (
 
 def faults_of(source):
     tree = ast.parse(source)
-    found = text_faults(source) + top_faults(tree)
+    found = text_faults(source) + top_faults(tree) + walk_faults(tree)
     for node in ast.walk(tree):
         for rule in node_faults(node):
             found.append((rule, getattr(node, "lineno", 1)))
@@ -113,6 +123,30 @@ def top_faults(tree):
     return found
 
 
+def called(node):
+    """The name or the method that a call calls; None of what is no call."""
+    if not isinstance(node, ast.Call):
+        return None
+    return node.func.attr if isinstance(node.func, ast.Attribute) else getattr(node.func, "id", None)
+
+
+def walk_faults(tree):
+    """What is walked on the spot stands where it is walked, and sets where they are asked at once."""
+    found = []
+    for around in ast.walk(tree):
+        for node in ast.iter_child_nodes(around):
+            name = called(node)
+            method = isinstance(getattr(node, "func", None), ast.Attribute)
+            if name in (WALKED_METHODS if method else WALKED):
+                walked = isinstance(around, (ast.For, ast.comprehension)) and around.iter is node
+                if not walked and not (called(around) in WALKERS and node in around.args):
+                    found.append(("L23", node.lineno))
+            if isinstance(node, ast.Set) or (name == "set" and not method):
+                if not isinstance(around, (ast.Compare, ast.BinOp)) and called(around) not in ("sorted", "len"):
+                    found.append(("L24", node.lineno))
+    return found
+
+
 def top_value_faults(value):
     """A value of a file's top is plain, and a list or dict of it holds no other one."""
     rules = []
@@ -142,7 +176,11 @@ def node_faults(node):
         rules.append("L6")
     if isinstance(node, ast.expr) and not isinstance(node, EXPRESSIONS):
         rules.append("L7")
-    for look in (import_faults, def_faults, class_faults, statement_faults, expression_faults, name_faults):
+    looks = (
+        import_faults, def_faults, keyword_faults, method_faults, class_faults, statement_faults, expression_faults,
+        name_faults,
+    )
+    for look in looks:
         rules.extend(look(node))
     return rules
 
@@ -173,6 +211,26 @@ def def_faults(node):
     return rules
 
 
+def keyword_faults(node):
+    if not isinstance(node, ast.Call) or called(node) not in OWN_NAMES + METHODS:
+        return []
+    taken = KEYWORDS.get(called(node), ())
+    return ["L22" for keyword in node.keywords if keyword.arg not in taken]
+
+
+def method_faults(node):
+    """__init__ gives back nothing; the others with two underscores store nothing."""
+    if not isinstance(node, ast.FunctionDef) or node.name not in METHODS_WITH_UNDERSCORES:
+        return []
+    for inner in ast.walk(node):
+        if node.name == "__init__" and isinstance(inner, ast.Return) and inner.value is not None:
+            return ["L28"]
+        if node.name != "__init__" and isinstance(inner, (ast.Attribute, ast.AugAssign)):
+            if isinstance(getattr(inner, "ctx", ast.Store()), ast.Store):
+                return ["L28"]
+    return []
+
+
 def class_faults(node):
     if not isinstance(node, ast.ClassDef):
         return []
@@ -194,9 +252,17 @@ def statement_faults(node):
         for handler in node.handlers:
             if not isinstance(handler.type, ast.Name) or handler.type.id in ("Exception", "TypeError"):
                 rules.append("L19")
+            elif handler.type.id in ("ValueError", "LookupError") and not is_bare_try(node):
+                rules.append("L19")
     if isinstance(node, ast.Raise) and not isinstance(node.exc, ast.Call):
         rules.append("L19")
     return rules
+
+
+def is_bare_try(node):
+    """Nothing is called within but what ValueError may be taken of."""
+    calls = [called(inner) for part in node.body for inner in ast.walk(part) if isinstance(inner, ast.Call)]
+    return len(node.body) == 1 and all(name in ("int", "str", "index", "remove") for name in calls)
 
 
 def expression_faults(node):

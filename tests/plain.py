@@ -4,6 +4,10 @@ import itertools
 import random
 from fractions import Fraction
 
+from stepgrove.tables import table_of
+
+from things import WEIGHING_LENGTHS
+
 
 def shape(parents):
     def at(knot):
@@ -21,6 +25,45 @@ def parents_of(tree):
             hang(bough, len(parents))
     hang(tree, 0)
     return parents
+
+
+def ways_down(parents, knot):
+    """The knots on the way from a knot's foot to the root, the root last."""
+    way = []
+    while knot != 0:
+        knot = parents[knot - 1]
+        way.append(knot)
+    return way
+
+
+def tree_at(parents, root, without):
+    """The tree of what stands above a knot, less all that stands on or above others."""
+    knots = range(1, len(parents) + 1)
+    kept = [root]
+    for knot in knots:
+        way = [knot] + ways_down(parents, knot)
+        if knot != root and root in way and not any(other in way for other in without):
+            kept.append(knot)
+    return shape([kept.index(parents[knot - 1]) for knot in kept[1:]])
+
+
+def ties_by_knots(tree):
+    parents = parents_of(tree)
+    knots = range(1, len(parents) + 1)
+    return sorted((tree_at(parents, 0, [knot]), tree_at(parents, knot, [])) for knot in knots)
+
+
+def cuts_by_knots(tree):
+    parents = parents_of(tree)
+    knots = range(1, len(parents) + 1)
+    cuts = []
+    for many in range(len(parents) + 1):
+        for taken in itertools.combinations(knots, many):
+            if any(knot in ways_down(parents, other) for knot in taken for other in taken):
+                continue
+            parts = sorted([tree_at(parents, knot, []) for knot in taken], reverse=True)
+            cuts.append((tree_at(parents, 0, taken), parts))
+    return [(None, [tree])] + sorted(cuts)
 
 
 def told(number):
@@ -232,6 +275,29 @@ def some_change(chance, unknowns, terms, greatest, figures):
 
 def some_start(chance, unknowns, figures):
     return [some_fraction(chance, figures) for _ in range(unknowns)]
+
+
+def some_weighing(chance, most, figures):
+    return some_start(chance, WEIGHING_LENGTHS[most], figures)
+
+
+def some_weighings(seed, figures):
+    """For each reach one of any fractions, and one with noughts between them."""
+    chance = chances(seed)
+    found = []
+    for most in range(8):
+        weighing = some_weighing(chance, most, figures)
+        found.append(weighing)
+        found.append([chance.choice(((0, 1), weight)) for weight in weighing])
+    return found
+
+
+def some_tables():
+    """The named tables, others of one row to five, and two that lead nowhere."""
+    chance = chances(1)
+    tables = [table_of(name) for name in ("plain", "middle", "heel", "third", "fourth")]
+    tables = tables + [some_table(chance, rows, 9) for rows in (1, 2, 3, 4, 5)]
+    return tables + [([[]], [(0, 1)]), ([[], [(0, 1)]], [(0, 1), (0, 1)])]
 
 
 def chances(seed):

@@ -1,11 +1,10 @@
-import itertools
 import unittest
 
 from stepgrove.cuts import tree_cuts, tree_ties
 from stepgrove.errors import NoTree
 from stepgrove.trees import is_tree, tree_knots, trees_to
 
-from plain import parents_of, shape
+from plain import cuts_by_knots, ties_by_knots
 from things import no_trees, own_answer, refused
 
 KNOT = ()
@@ -13,45 +12,6 @@ PAIR = ((),)
 FORK = ((), ())
 CHAIN = (((),),)
 TRIPLE = ((), (), ())
-
-
-def ways_down(parents, knot):
-    """The knots on the way from a knot's foot to the root, the root last."""
-    way = []
-    while knot != 0:
-        knot = parents[knot - 1]
-        way.append(knot)
-    return way
-
-
-def tree_at(parents, root, without):
-    """The tree of what stands above a knot, less all that stands on or above others."""
-    knots = range(1, len(parents) + 1)
-    kept = [root]
-    for knot in knots:
-        way = [knot] + ways_down(parents, knot)
-        if knot != root and root in way and not any(other in way for other in without):
-            kept.append(knot)
-    return shape([kept.index(parents[knot - 1]) for knot in kept[1:]])
-
-
-def ties_by_knots(tree):
-    parents = parents_of(tree)
-    knots = range(1, len(parents) + 1)
-    return sorted((tree_at(parents, 0, [knot]), tree_at(parents, knot, [])) for knot in knots)
-
-
-def cuts_by_knots(tree):
-    parents = parents_of(tree)
-    knots = range(1, len(parents) + 1)
-    cuts = []
-    for many in range(len(parents) + 1):
-        for taken in itertools.combinations(knots, many):
-            if any(knot in ways_down(parents, other) for knot in taken for other in taken):
-                continue
-            parts = sorted([tree_at(parents, knot, []) for knot in taken], reverse=True)
-            cuts.append((tree_at(parents, 0, taken), parts))
-    return [(None, [tree])] + sorted(cuts)
 
 
 class Ties(unittest.TestCase):

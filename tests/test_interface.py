@@ -74,6 +74,28 @@ ARGUMENTS = {
         "table_mixed": ["tables", "parts"],
         "table_sharpened": ["table", "order"],
     },
+    "weighings": {
+        "weighing_composed": ["one", "other"],
+        "weighing_undone": ["weighing"],
+        "weighing_turned": ["weighing", "part"],
+        "weighing_mirrored": ["weighing"],
+    },
+    "follows": {
+        "flow_weighing": ["numbers"],
+        "followed_weighing": ["weighing"],
+        "followed_changes": ["change", "weighing"],
+    },
+    "texts": {
+        "shown_tree": ["tree"],
+        "read_tree": ["text"],
+        "shown_table": ["table"],
+        "read_table": ["text"],
+        "shown_change": ["change"],
+        "read_change": ["text"],
+    },
+    "desk": {
+        "Desk": [],
+    },
 }
 
 
@@ -84,6 +106,11 @@ class Interface(unittest.TestCase):
                 with self.subTest(name, module=module):
                     function = getattr(importlib.import_module("stepgrove." + module), name)
                     self.assertEqual(list(inspect.signature(function).parameters), arguments)
+
+    def test_a_desk_is_told_lines(self):
+        desk = importlib.import_module("stepgrove.desk").Desk
+        self.assertTrue(inspect.isclass(desk))
+        self.assertEqual(list(inspect.signature(desk().tell).parameters), ["line"])
 
 
 if __name__ == "__main__":

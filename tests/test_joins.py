@@ -9,7 +9,7 @@ from stepgrove.tables import is_table, table_of
 from stepgrove.weights import table_weight
 
 from plain import (
-    chances, plain_step_on, some_change, some_fraction, some_start, some_table, tables_behind, told,
+    chances, plain_step_on, some_change, some_fraction, some_start, some_table, some_tables, tables_behind, told,
 )
 from things import OF_ORDER_3, OF_ORDER_5, good_tables, no_tables, own_answer, refused
 
@@ -73,12 +73,6 @@ def rows_by(tables, parts, change, start, most):
             for k in range(1, most + 1):
                 row[k] = row[k] + Fraction(*part) * Fraction(*led[k])
     return [[told(number) for number in row] for row in rows]
-
-
-def some_tables():
-    chance = chances(1)
-    tables = [table_of(name) for name in NAMES] + [some_table(chance, rows, 9) for rows in (1, 2, 3, 4, 5)]
-    return tables + [([[]], [NO]), ([[], [NO]], [NO, NO])]
 
 
 def small_tables():

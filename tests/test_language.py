@@ -32,10 +32,19 @@ BROKEN = [
     ("L17", "# the type of it\n"),
     ("L17", "def f(x):\n    return open(x)\n"),
     ("L19", "def f(x):\n    try:\n        return x\n    except Exception:\n        return 0\n"),
+    ("L19", "def f(x):\n    try:\n        return g(x)\n    except ValueError:\n        return 0\n"),
+    ("L19", "def f(x):\n    try:\n        y = 1\n        return int(x)\n    except ValueError:\n        return 0\n"),
     ("L20", "def f(x, y):\n    return x is y\n"),
     ("L21", "def f(x: int):\n    return x\n"),
+    ("L22", "def f(x):\n    return int(x, base=7)\n"),
+    ("L22", "def f(x):\n    return sorted(x, strict=True)\n"),
+    ("L23", "def f(x):\n    y = zip(x, x)\n    return list(y)\n"),
+    ("L23", "def f(x):\n    return x.items()\n"),
+    ("L24", "def f(x):\n    y = set(x)\n    return y\n"),
     ("L25", "def f(x):\n    x.sort()\n    return x\n"),
     ("L27", "def f(x):\n    return 2 ** x\n"),
+    ("L28", "class C:\n    def __init__(self):\n        return None\n"),
+    ("L28", "class C:\n    def __len__(self):\n        self.x = 1\n        return 1\n"),
 ]
 
 
